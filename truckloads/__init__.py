@@ -1,0 +1,1 @@
+"""Truck loading with incompatible goods: bin packing with conflicts."""
