@@ -58,7 +58,10 @@ def taken_apart(flat):
 
 def ask(*calls):
     """What each of the calls answers, on one new object."""
-    found = taken_apart(answers(written(calls)))
+    numbers = written(calls)
+    if len(calls) > 40 or len(numbers) > 160:
+        raise AssertionError(f"a request of {len(calls)} calls and {len(numbers)} numbers is never handed in")
+    found = taken_apart(answers(numbers))
     if len(found) != len(calls):
         raise AssertionError(f"{len(calls)} calls, but {len(found)} answers")
     return found
@@ -90,6 +93,15 @@ class Load:
         """What the calls answer once the load is built."""
         return ask(*self.calls(), *calls)[-len(calls):]
 
+    def changed(self, **values):
+        """Another load that has these values in the place of its own."""
+        held = {"capacity": self.capacity, "goods": self.goods, "pairs": self.pairs, "distances": self.distances}
+        return Load(**{**held, **values})
+
+    def without(self, item):
+        """Another load without this item."""
+        return self.changed(goods=self.goods[:item] + self.goods[item + 1:])
+
     def pair_allowed(self, a, b):
         """Whether the items a and b may be in the same trip, their weights aside."""
         first, second = self.goods[a][1], self.goods[b][1]
@@ -116,6 +128,12 @@ class Load:
         """All valid plans, canonical or not, with trip numbers less than k."""
         every = itertools.product(range(k), repeat=len(self.goods))
         return [list(plan) for plan in every if self.allows(plan)]
+
+
+def fewest_trips(load):
+    """What min_trips is to answer, by a search over all plans, canonical or not."""
+    plans = load.all_valid_plans(len(load.goods))
+    return [min(len(set(plan)) for plan in plans)] if plans else [-33]
 
 
 def canonical(plan):

@@ -4,7 +4,7 @@ import random
 import unittest
 
 import truckloads.trips
-from support import GREATEST, ask, random_load, taken_apart, written
+from support import GREATEST, NUMBER_OF, ask, random_load, taken_apart, written
 from truckloads.trips import answers
 
 EVERY_KIND = [
@@ -21,23 +21,46 @@ EVERY_KIND = [
     ("shortest_plan", 3),
     ("valid_plan_count", 7),
     ("first_fit",),
+    ("lower_bounds",),
+    ("assign_item", 1, 6),
+    ("get_plan",),
+    ("is_plan_valid",),
+    ("plan_length",),
+    ("trip_info", 0),
+    ("loading_order", 6),
+    ("use_shortest_plan", 3),
+    ("remaining_capacity", 1),
+    ("min_trips_with_item", 20, 2, 0),
+    ("min_trips_with_capacity", 11),
+    ("min_trips_without_item", 2),
+    ("summary",),
     ("remove_item", 1),
     ("set_capacity", 12),
+]
+
+EVERY_ANSWER = [
+    [0], [0], [1], [2], [0], [0], [3, 11, 0, 1, 9, 1, 2, 8, 3, 5], [1], [2], [3, 0, 0, 1],
+    [14, 0, 0, 1], [3], [2, 0, 0, 1], [2, 2, 5], [0], [3, 0, 6, 0], [0], [14, 2], [2, 19, 0, 0], [1, 1],
+    [14], [12], [3], [3], [1], [3, 20, 28, 1, 0, 0, 7, 0, 0, 0], [2], [20],
 ]
 
 
 class Answers(unittest.TestCase):
     def test_every_kind_of_call_in_one_list(self):
-        self.assertEqual(
-            answers(written(EVERY_KIND)),
-            [1, 0, 1, 0, 1, 1, 1, 2, 1, 0, 1, 0, 10, 3, 11, 0, 1, 9, 1, 2, 8, 3, 5, 1, 1, 1, 2, 4, 3, 0, 0, 1]
-            + [4, 14, 0, 0, 1, 1, 3, 4, 2, 0, 0, 1, 1, 2, 1, 20],
-        )
+        self.assertEqual({call[0] for call in EVERY_KIND}, set(NUMBER_OF))
+        self.assertEqual(ask(*EVERY_KIND), EVERY_ANSWER)
+
+    def test_each_answer_has_its_count_ahead(self):
+        expected = []
+        for answer in EVERY_ANSWER:
+            expected += [len(answer)] + answer
+        self.assertEqual(answers(written(EVERY_KIND)), expected)
 
     def test_a_single_call(self):
         self.assertEqual(answers([0, 1]), [1, 0])
         self.assertEqual(answers([0, 0]), [1, -22])
         self.assertEqual(answers([4]), [1, -11])
+        self.assertEqual(answers([25]), [1, -11])
 
     def test_one_list_of_whole_numbers(self):
         found = answers(written(EVERY_KIND))
@@ -61,11 +84,15 @@ class Answers(unittest.TestCase):
         # Each of these numbers would be a call if it were read as one.
         found = ask(("create", 61), ("add_item", 0, 4, 8), ("create", 5), ("set_incompatible", 4, 4, 4), ("min_trips",))
         self.assertEqual(found, [[-22], [-11], [0], [-22], [0]])
+        found = ask(("assign_item", 25, 25), ("create", 5), ("assign_item", 25, 25), ("trip_info", 25), ("get_plan",))
+        self.assertEqual(found, [[-11], [0], [-2], [-2], [0]])
 
     def test_forty_costly_calls(self):
         setup = [("create", 60)] + [("add_item", 1, 0, stop % 6) for stop in range(7)]
         found = ask(*setup, *[("shortest_plan", 7)] * 32)
         self.assertEqual(found[8:], [[0] + [0] * 7] * 32)
+        found = ask(*setup, *[("use_shortest_plan", 7), ("min_trips_with_capacity", 7)] * 16)
+        self.assertEqual(found[8:], [[0], [1]] * 16)
 
 
 class NothingIsChangedOrKept(unittest.TestCase):
@@ -103,15 +130,16 @@ class NothingIsChangedOrKept(unittest.TestCase):
 
     def test_a_new_instance_has_nothing_of_an_earlier_call(self):
         answers(written([("create", 60), ("set_distance", 0, 9), ("set_incompatible", 1, 2, 1), ("add_item", 1, 0, 0)]))
-        found = ask(("create", 10), ("list_items",), ("set_distance", 0, 0), ("set_incompatible", 1, 2, 0))
-        self.assertEqual(found, [[0], [0], [0], [0]])
+        found = ask(("create", 10), ("list_items",), ("get_plan",), ("summary",), ("lower_bounds",))
+        self.assertEqual(found, [[0], [0], [0], [0, 10, 0, 0, 0, 0, 0, 0, 0, 0], [0, 0, 0]])
 
     def test_calls_in_between_change_no_answer(self):
         chance = random.Random(11)
         requests = []
         for _ in range(30):
             load = random_load(chance, 6)
-            requests.append(written(load.calls() + [("list_items",), ("first_fit",), ("shortest_plan", 6)]))
+            behind = [("first_fit",), ("use_shortest_plan", 6), ("get_plan",), ("summary",), ("lower_bounds",)]
+            requests.append(written(load.calls() + behind))
         once = [answers(request) for request in requests]
         again = [answers(request) for request in reversed(requests)]
         self.assertEqual(once, again[::-1])

@@ -3,11 +3,6 @@
 import unittest
 
 from support import GREATEST, ask, ask_last
-from truckloads.instance import Instance
-from truckloads.operations import operate
-
-NUMBER_ADD = 2
-NUMBER_REMOVE = 3
 
 
 class Create(unittest.TestCase):
@@ -151,42 +146,6 @@ class SetDistance(unittest.TestCase):
     def test_trips_are_as_long_as_the_last_distance_set(self):
         setup = [("create", 9), ("add_item", 1, 0, 4), ("set_distance", 4, 3), ("set_distance", 4, 50)]
         self.assertEqual(ask_last(*setup, ("shortest_plan", 1)), [100, 0])
-
-
-class ManualPlan(unittest.TestCase):
-    """What the instance holds for the manual plan, which no call built so far shows."""
-
-    def test_none_at_first(self):
-        self.assertEqual(Instance(9).manual_plan, [])
-
-    def test_a_new_item_goes_to_trip_0(self):
-        instance = Instance(9)
-        operate(instance, NUMBER_ADD, [1, 0, 0])
-        operate(instance, NUMBER_ADD, [2, 0, 0])
-        self.assertEqual(instance.manual_plan, [0, 0])
-
-    def test_a_removed_item_takes_its_entry_along(self):
-        instance = Instance(9)
-        for weight in (1, 2, 3):
-            operate(instance, NUMBER_ADD, [weight, 0, 0])
-        instance.manual_plan = [4, 5, 6]
-        operate(instance, NUMBER_REMOVE, [1])
-        self.assertEqual(instance.manual_plan, [4, 6])
-
-    def test_refused_calls_and_searches_leave_it(self):
-        instance = Instance(9)
-        for weight in (1, 2, 3):
-            operate(instance, NUMBER_ADD, [weight, 0, 0])
-        instance.manual_plan = [4, 5, 6]
-        for call, numbers in ((1, [0]), (1, [2]), (2, [0, 0, 0]), (3, [3]), (8, []), (9, []), (10, [7]), (12, [])):
-            operate(instance, call, numbers)
-            self.assertEqual(instance.manual_plan, [4, 5, 6])
-
-    def test_a_full_instance_gets_no_entry_more(self):
-        instance = Instance(9)
-        for weight in range(1, 9):
-            operate(instance, NUMBER_ADD, [weight, 0, 0])
-        self.assertEqual(instance.manual_plan, [0] * 7)
 
 
 class WrongNumbers(unittest.TestCase):

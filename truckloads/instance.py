@@ -27,3 +27,25 @@ class Instance:
         self.incompatible = [[0] * CATEGORY_COUNT for category in range(CATEGORY_COUNT)]
         self.distances = [0] * STOP_COUNT
         self.manual_plan = []
+
+
+def copy_of(instance):
+    """An instance that can be changed while this one stays as it is."""
+    made = Instance(instance.capacity)
+    # The goods themselves are shared: no operation changes an item.
+    made.goods = list(instance.goods)
+    made.incompatible = [list(row) for row in instance.incompatible]
+    made.distances = list(instance.distances)
+    made.manual_plan = list(instance.manual_plan)
+    return made
+
+
+def total_weight(instance):
+    """The sum of the weights of all items."""
+    return sum([item.weight for item in instance.goods])
+
+
+def count_of_incompatible_pairs(instance):
+    """How many pairs of categories are incompatible, whichever of the two is named first."""
+    # Each row only up to its own category, as the rows hold every pair in both orders.
+    return sum([sum(row[:category + 1]) for category, row in enumerate(instance.incompatible)])

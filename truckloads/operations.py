@@ -5,18 +5,33 @@ list of the numbers that it answers; a refusal is a list of one code. All checks
 ahead of the first change, so a refused operation leaves the instance as it was.
 """
 
-from truckloads.instance import CATEGORY_COUNT, STOP_COUNT, Item
+from truckloads.bounds import largest_conflict_set, least_trips_by_weight, number_of_set
+from truckloads.instance import (
+    CATEGORY_COUNT,
+    STOP_COUNT,
+    Item,
+    copy_of,
+    count_of_incompatible_pairs,
+    total_weight,
+)
 from truckloads.plans import (
+    TRIP_COUNT,
     are_in_conflict,
     count_of_trips,
+    farthest_first,
     fewest_trips_plan,
     first_fit_plan,
+    is_valid_plan,
+    is_valid_trip,
     length_of_plan,
+    length_of_trip,
+    members_of_trip,
     shortest_valid_plan,
     valid_plans,
+    weight_of_trip,
 )
 
-NO_SUCH_ITEM = -2
+NOT_THERE = -2
 OUT_OF_RANGE = -22
 TOO_MANY_ITEMS = -28
 NO_VALID_PLAN = -33
@@ -36,6 +51,21 @@ def is_capacity(number):
 def has_item(instance, item):
     """Whether there is an item with this number."""
     return item < len(instance.goods)
+
+
+def has_trip(trip):
+    """Whether the manual plan may use a trip with this number."""
+    return trip < TRIP_COUNT
+
+
+def as_number(truth):
+    """1 if it is so, otherwise 0."""
+    return 1 if truth else 0
+
+
+def is_refusal(answer):
+    """Whether the answer is an error code; nothing else is negative."""
+    return answer[0] < 0
 
 
 def set_capacity(instance, numbers):
@@ -66,7 +96,7 @@ def remove_item(instance, numbers):
     """3: item -> how many items remain."""
     item = numbers[0]
     if not has_item(instance, item):
-        return [NO_SUCH_ITEM]
+        return [NOT_THERE]
     instance.goods.pop(item)
     instance.manual_plan.pop(item)
     return [len(instance.goods)]
@@ -109,8 +139,8 @@ def in_conflict(instance, numbers):
     item_a = numbers[0]
     item_b = numbers[1]
     if not has_item(instance, item_a) or not has_item(instance, item_b):
-        return [NO_SUCH_ITEM]
-    return [1 if are_in_conflict(instance, item_a, item_b) else 0]
+        return [NOT_THERE]
+    return [as_number(are_in_conflict(instance, item_a, item_b))]
 
 
 def min_trips(instance, numbers):
@@ -154,6 +184,104 @@ def first_fit(instance, numbers):
     return [count_of_trips(plan)] + plan
 
 
+def lower_bounds(instance, numbers):
+    """13: nothing -> the bound by weight; the size of the largest conflict set; its set number."""
+    members = largest_conflict_set(instance)
+    return [least_trips_by_weight(instance), len(members), number_of_set(members)]
+
+
+def assign_item(instance, numbers):
+    """14: item, trip -> old trip."""
+    item = numbers[0]
+    trip = numbers[1]
+    if not has_item(instance, item):
+        return [NOT_THERE]
+    if not has_trip(trip):
+        return [OUT_OF_RANGE]
+    old_trip = instance.manual_plan[item]
+    instance.manual_plan[item] = trip
+    return [old_trip]
+
+
+def get_plan(instance, numbers):
+    """15: nothing -> how many items there are; the trip of each in the manual plan."""
+    return [len(instance.manual_plan)] + instance.manual_plan
+
+
+def is_plan_valid(instance, numbers):
+    """16: nothing -> 1 if the manual plan is valid, otherwise 0."""
+    return [as_number(is_valid_plan(instance, instance.manual_plan))]
+
+
+def plan_length(instance, numbers):
+    """17: nothing -> the length of the manual plan; how many of its trips have items."""
+    return [length_of_plan(instance, instance.manual_plan), count_of_trips(instance.manual_plan)]
+
+
+def trip_info(instance, numbers):
+    """18: trip -> how many items it has; their weight; its length; 1 if it is valid, otherwise 0."""
+    trip = numbers[0]
+    if not has_trip(trip):
+        return [NOT_THERE]
+    members = members_of_trip(instance.manual_plan, trip)
+    weight = weight_of_trip(instance, members)
+    return [len(members), weight, length_of_trip(instance, members), as_number(is_valid_trip(instance, members))]
+
+
+def loading_order(instance, numbers):
+    """19: trip -> how many items it has; these, in the order in which they are loaded."""
+    trip = numbers[0]
+    if not has_trip(trip):
+        return [NOT_THERE]
+    members = members_of_trip(instance.manual_plan, trip)
+    return [len(members)] + farthest_first(instance, members)
+
+
+def use_shortest_plan(instance, numbers):
+    """20: k -> the length of the shortest plan for k, which becomes the manual plan."""
+    answer = shortest_plan(instance, numbers)
+    if is_refusal(answer):
+        return answer
+    instance.manual_plan = answer[1:]
+    return [answer[0]]
+
+
+def remaining_capacity(instance, numbers):
+    """21: trip -> the weight that it can carry besides its items."""
+    trip = numbers[0]
+    if not has_trip(trip):
+        return [NOT_THERE]
+    members = members_of_trip(instance.manual_plan, trip)
+    return [max(0, instance.capacity - weight_of_trip(instance, members))]
+
+
+def min_trips_with_item(instance, numbers):
+    """22: weight, category, stop -> the minimum number of trips if the item were added."""
+    changed = copy_of(instance)
+    added = add_item(changed, numbers)
+    return added if is_refusal(added) else min_trips(changed, [])
+
+
+def min_trips_with_capacity(instance, numbers):
+    """23: capacity -> the minimum number of trips if the capacity were this."""
+    changed = copy_of(instance)
+    replaced = set_capacity(changed, numbers)
+    return replaced if is_refusal(replaced) else min_trips(changed, [])
+
+
+def min_trips_without_item(instance, numbers):
+    """24: item -> the minimum number of trips if the item were removed."""
+    changed = copy_of(instance)
+    removed = remove_item(changed, numbers)
+    return removed if is_refusal(removed) else min_trips(changed, [])
+
+
+def summary(instance, numbers):
+    """25: nothing -> how many items; capacity; weight of all; how many incompatible pairs; the distances."""
+    counts = [len(instance.goods), instance.capacity, total_weight(instance), count_of_incompatible_pairs(instance)]
+    return counts + instance.distances
+
+
 OPERATIONS = {
     1: set_capacity,
     2: add_item,
@@ -167,11 +295,22 @@ OPERATIONS = {
     10: shortest_plan,
     11: valid_plan_count,
     12: first_fit,
+    13: lower_bounds,
+    14: assign_item,
+    15: get_plan,
+    16: is_plan_valid,
+    17: plan_length,
+    18: trip_info,
+    19: loading_order,
+    20: use_shortest_plan,
+    21: remaining_capacity,
+    22: min_trips_with_item,
+    23: min_trips_with_capacity,
+    24: min_trips_without_item,
+    25: summary,
 }
 
 
 def operate(instance, call, numbers):
     """What the call, which is not create, answers on the instance."""
-    if call not in OPERATIONS:
-        raise NotImplementedError(f"call {call} is not built yet")
     return OPERATIONS[call](instance, numbers)

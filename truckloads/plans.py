@@ -3,7 +3,7 @@
 A trip is a list of item numbers, a plan a list with the trip number of each item.
 """
 
-# A plan never needs more trips than there may be items.
+# A plan never needs more trips than there may be items, and the manual plan has no others.
 TRIP_COUNT = 7
 
 
@@ -39,14 +39,29 @@ def length_of_trip(instance, members):
     return 2 * max([instance.distances[instance.goods[item].stop] for item in members], default=0)
 
 
+def farthest_first(instance, members):
+    """The items in the order of loading; items that are equally far stay in the order they are in."""
+    return sorted(members, key=lambda item: -instance.distances[instance.goods[item].stop])
+
+
 def members_of_trip(plan, trip):
-    """The items that the plan assigns to the trip."""
+    """The items that the plan assigns to the trip, in the order of their numbers."""
     return [item for item, chosen in enumerate(plan) if chosen == trip]
+
+
+def trips_of_plan(plan):
+    """The items of each trip, those without items too."""
+    return [members_of_trip(plan, trip) for trip in range(TRIP_COUNT)]
 
 
 def length_of_plan(instance, plan):
     """The sum of the lengths of the plan's trips."""
-    return sum([length_of_trip(instance, members_of_trip(plan, trip)) for trip in range(TRIP_COUNT)])
+    return sum([length_of_trip(instance, members) for members in trips_of_plan(plan)])
+
+
+def is_valid_plan(instance, plan):
+    """Whether all trips of the plan are valid."""
+    return all([is_valid_trip(instance, members) for members in trips_of_plan(plan)])
 
 
 def count_of_trips(plan):
